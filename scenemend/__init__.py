@@ -1,0 +1,1 @@
+"""Scenemend: pictures of parts, drawn anew where they changed."""
