@@ -15,6 +15,10 @@ def has_cells(box):
     return box[2] > 0 and box[3] > 0
 
 
+def box_has(box, x, y):
+    return box[0] <= x < right_of(box) and box[1] <= y < bottom_of(box)
+
+
 def box_meet(one, other):
     x = max(one[0], other[0])
     y = max(one[1], other[1])
