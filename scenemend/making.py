@@ -3,10 +3,10 @@
 from scenemend.bands import band_cells
 from scenemend.held import lay_on, sheet_of
 from scenemend.moves import laying_shifts
-from scenemend.plain import plain_sheet, plate_cells, stencil_cells
+from scenemend.plain import plain_sheet, plate_cells, plate_has, stencil_cells, stencil_has
 from scenemend.rows import is_holder, row_data, row_kind, row_shown, row_x, row_y
 from scenemend.sheets import sheet_cut, sheet_masked, sheet_shared, sheet_shifted, sheet_turned
-from scenemend.words import word_cells
+from scenemend.words import word_cells, word_has
 
 
 def leaf_cells(kind, data):
@@ -17,6 +17,18 @@ def leaf_cells(kind, data):
     if kind == "word":
         return word_cells(data[0])
     return stencil_cells(data[0])
+
+
+def leaf_has(row, x, y):
+    kind = row_kind(row)
+    data = row_data(row)
+    if kind == "plate":
+        return plate_has(data[0], data[1], x, y)
+    if kind == "band":
+        return (x, y) in band_cells(data[0], data[1])
+    if kind == "word":
+        return word_has(data[0], x, y)
+    return stencil_has(data[0], x, y)
 
 
 def leaf_made(row):

@@ -21,6 +21,10 @@ def plate_cells(w, h):
     return cells_of((0, 0, w, h))
 
 
+def plate_has(w, h, x, y):
+    return 0 <= x < w and 0 <= y < h
+
+
 def plate_sheet(w, h, shade, share):
     return plain_sheet(plate_cells(w, h), shade, share)
 
@@ -30,6 +34,10 @@ def stencil_cells(rows):
     for y, row in enumerate(rows):
         cells.extend([(x, y) for x, sign in enumerate(row) if sign == "#"])
     return cells
+
+
+def stencil_has(rows, x, y):
+    return 0 <= y < len(rows) and 0 <= x < len(rows[y]) and rows[y][x] == "#"
 
 
 def stencil_sheet(rows, shade, share):

@@ -21,8 +21,12 @@ def row_of(rows, name):
     return row
 
 
+def kid_rows(rows, name):
+    return [row for row in rows if row_holder(row) == name]
+
+
 def kids_of(rows, name):
-    return [row_name(row) for row in rows if row_holder(row) == name]
+    return [row_name(row) for row in kid_rows(rows, name)]
 
 
 def holders_of(rows, name):

@@ -24,3 +24,9 @@ def spot_shared(spot, share):
     if spot is None or share == (0, 1):
         return None
     return (times(spot[0], share), times(spot[1], share))
+
+
+def shade_on(spot, ground):
+    if spot is None:
+        return ground
+    return plus(spot[0], times(ground, minus((1, 1), spot[1])))

@@ -2,6 +2,10 @@
 
 from fractions import Fraction
 
+from scenemend.bands import band_sheet
+from scenemend.plain import plate_sheet, stencil_sheet
+from scenemend.words import word_sheet
+
 SHARES = ((0, 1), (1, 1), (1, 2), (1, 3), (2, 3), (3, 4), (1, 7), (999, 1000), (1, 1000), (500, 997))
 COVERS = SHARES[1:]
 
@@ -87,20 +91,20 @@ def some_share(chance):
 def some_data(chance, kind):
     """Small data of a kind, so that parts meet often on a small floor."""
     if kind == "plate":
-        return (chance.randint(1, 4), chance.randint(1, 4), some_share(chance), some_share(chance))
+        return (chance.randint(1, 7), chance.randint(1, 6), some_share(chance), some_share(chance))
     if kind == "band":
         return (chance.randint(-4, 4), chance.randint(-4, 4), some_share(chance), some_share(chance))
     if kind == "word":
         text = "".join(chance.choice("0123456789abcdef-_") for count in range(chance.randint(0, 2)))
         return (text, some_share(chance), some_share(chance))
     if kind == "stencil":
-        wide = chance.randint(1, 4)
-        rows = tuple("".join(chance.choice("##.") for x in range(wide)) for y in range(chance.randint(1, 4)))
+        wide = chance.randint(1, 6)
+        rows = tuple("".join(chance.choice("###.") for x in range(wide)) for y in range(chance.randint(1, 6)))
         return (rows, some_share(chance), some_share(chance))
     if kind == "glass":
         return (some_share(chance),)
     if kind == "window":
-        return (chance.randint(1, 7), chance.randint(1, 6), chance.randint(-2, 3), chance.randint(-2, 3))
+        return (chance.randint(3, 9), chance.randint(2, 8), chance.randint(-3, 2), chance.randint(-3, 2))
     if kind == "turn":
         return (chance.randint(0, 3), chance.random() < 0.5)
     if kind == "tiles":
@@ -113,8 +117,10 @@ def some_row(chance, rows, name, kinds=LEAVES + HOLDERS):
     holders = [row[0] for row in rows if row[5] in HOLDERS]
     holder = chance.choice(holders) if holders and chance.random() < 0.75 else ""
     kind = chance.choice(kinds)
-    place = (chance.randint(-2, 5), chance.randint(-2, 4))
-    return (name, holder) + place + (chance.random() < 0.9, kind, some_data(chance, kind))
+    # What is turned lies left of its own cell or above it, so a turn is put further in.
+    low = 1 if kind == "turn" else -2
+    place = (chance.randint(low, low + 5), chance.randint(low, low + 4))
+    return (name, holder) + place + (chance.random() < 0.93, kind, some_data(chance, kind))
 
 
 def is_fit(rows, row):
@@ -131,15 +137,192 @@ def above(rows, name):
     return names
 
 
-def some_scene(chance, many=12):
+def some_scene(chance, many=16):
     rows = []
-    for count in range(chance.randint(0, many)):
-        kinds = HOLDERS if count < 2 else LEAVES + LEAVES + HOLDERS
+    for count in range(chance.choice((0, many // 2, many, many, many))):
+        kinds = HOLDERS if count < 3 else LEAVES * 4 + HOLDERS
         row = some_row(chance, rows, "p" + str(count), kinds)
         if is_fit(rows, row):
             rows.append(row)
+        # A mask without parts is drawn as nothing, so most masks get a great stencil and a plate.
+        if rows and rows[-1][5] == "mask" and len(rows) < many and chance.random() < 0.8:
+            mask = rows[-1][0]
+            kept = [plate("q" + str(count), 9, 8, ONE, chance.choice(COVERS), holder=mask, x=-2, y=-2)]
+            kept.append(plate("r" + str(count), 4, 3, HALF, chance.choice(COVERS), holder=mask))
+            rows.extend(row for row in kept if is_fit(rows, row))
     return rows
 
 
 def some_floor(chance):
-    return (chance.randint(1, 9), chance.randint(1, 7), chance.choice(SHARES))
+    return (chance.choice((1, 5, 8, 11)), chance.choice((1, 5, 7, 9)), chance.choice(SHARES))
+
+
+# Scenes drawn as numbers: what the program tells is compared with this.
+
+def row_named(rows, name):
+    return [row for row in rows if row[0] == name][0]
+
+
+def leaf_numbers(row):
+    kind, data = row[5], row[6]
+    make = {"plate": plate_sheet, "band": band_sheet, "word": word_sheet, "stencil": stencil_sheet}[kind]
+    return numbers_of(make(*data))
+
+
+def turned(cell, quarters, flipped):
+    x, y = cell
+    if flipped:
+        x = -x
+    for count in range(quarters % 4):
+        x, y = -y, x
+    return (x, y)
+
+
+def gone(row, cell, laying=(0, 0)):
+    """Where a cell of a holder's content comes to lie, or None where a window cuts it; one laying of tiles."""
+    kind, data = row[5], row[6]
+    x, y = cell
+    if kind == "window":
+        x, y = x - data[2], y - data[3]
+        return (x, y) if 0 <= x < data[0] and 0 <= y < data[1] else None
+    if kind == "turn":
+        return turned(cell, data[0], data[1])
+    if kind == "tiles":
+        return (x + laying[0] * data[2], y + laying[1] * data[3])
+    return cell
+
+
+def layings_of(row):
+    if row[5] != "tiles":
+        return [(0, 0)]
+    return [(i, j) for j in range(row[6][1]) for i in range(row[6][0])]
+
+
+def moved(cells, go):
+    """A dict from cells, each cell gone its way; those that went to None are left out."""
+    return {go(cell): spot for cell, spot in cells.items() if go(cell) is not None}
+
+
+def placed(row, cells):
+    return moved(cells, lambda cell: (cell[0] + row[2], cell[1] + row[3]))
+
+
+def layers_of_kids(rows, kids):
+    """The layers of the shown ones: tuples (leaf, dict of its spots), the lowest first."""
+    layers = []
+    for row in kids:
+        if row[4]:
+            layers.extend((leaf, placed(row, cells)) for leaf, cells in layers_of(rows, row))
+    return layers
+
+
+def laid(numbers):
+    """Several dicts of spots, laid over one another in this order."""
+    whole = {}
+    for cells in numbers:
+        for cell, spot in cells.items():
+            whole[cell] = over(spot, whole.get(cell))
+    return whole
+
+
+def kid_numbers(rows, kids):
+    return laid(placed(row, own_numbers(rows, row)) for row in kids if row[4])
+
+
+def own_numbers(rows, row):
+    """A part's own sheet, as a dict of numbers."""
+    if row[5] in LEAVES:
+        return leaf_numbers(row)
+    kids = [kid for kid in rows if kid[1] == row[0]]
+    if row[5] == "mask":
+        masks = kid_numbers(rows, kids[:1])
+        content = kid_numbers(rows, kids[1:])
+        return {
+            cell: (ink * masks[cell][1], cover * masks[cell][1])
+            for cell, (ink, cover) in content.items() if cell in masks
+        }
+    content = kid_numbers(rows, kids)
+    if row[5] == "glass":
+        share = as_number(row[6][0])
+        content = {cell: (ink * share, cover * share) for cell, (ink, cover) in content.items() if share > 0}
+    return laid(moved(content, lambda cell: gone(row, cell, laying)) for laying in layings_of(row))
+
+
+def layers_of(rows, row):
+    """The layers of a part at its own cells: tuples (leaf, dict of its spots), the lowest first."""
+    if row[5] in LEAVES:
+        return [(row[0], leaf_numbers(row))]
+    kids = [kid for kid in rows if kid[1] == row[0]]
+    if row[5] == "mask":
+        masks = kid_numbers(rows, kids[:1])
+        layers = layers_of_kids(rows, kids[1:])
+        return [(leaf, {cell: True for cell in cells if cell in masks}) for leaf, cells in layers]
+    if row[5] == "glass" and row[6][0] == NONE:
+        return []
+    layers = layers_of_kids(rows, kids)
+    return [
+        (leaf, moved(cells, lambda cell: gone(row, cell, laying)))
+        for laying in layings_of(row) for leaf, cells in layers
+    ]
+
+
+def floor_layers(rows):
+    return layers_of_kids(rows, [row for row in rows if row[1] == ""])
+
+
+def under_due(layers, x, y):
+    names = [leaf for leaf, cells in layers if (x, y) in cells]
+    return list(dict.fromkeys(reversed(names)))
+
+
+def floor_numbers(rows):
+    return kid_numbers(rows, [row for row in rows if row[1] == ""])
+
+
+def picture_due(rows, floor):
+    numbers = floor_numbers(rows)
+    ground = as_number(floor[2])
+    picture = []
+    for y in range(floor[1]):
+        spots = [numbers.get((x, y), (0, 0)) for x in range(floor[0])]
+        picture.append([as_told(Fraction(ink + ground * (1 - cover))) for ink, cover in spots])
+    return picture
+
+
+def frame_due(cells):
+    if not cells:
+        return None
+    xs = [x for x, y in cells]
+    ys = [y for x, y in cells]
+    return (min(xs), min(ys), max(xs) - min(xs) + 1, max(ys) - min(ys) + 1)
+
+
+def ways_due(rows, name):
+    """For each laying of the tiles above a part: the cells of its own sheet on the floor."""
+    chain = [row_named(rows, other) for other in above(rows, name)]
+    ways = []
+    for laying in ([layings_of(row) for row in chain[1:] if row[5] == "tiles"] or [[(0, 0)]])[0]:
+        cells = placed(chain[0], own_numbers(rows, chain[0]))
+        for row in chain[1:]:
+            cells = placed(row, moved(cells, lambda cell: gone(row, cell, laying)))
+        ways.append(list(cells))
+    return ways
+
+
+def places_due(rows, floor, name):
+    chain = [row for row in rows if row[0] == name]
+    if not chain or not all(row_named(rows, other)[4] for other in above(rows, name)):
+        return []
+    on_floor = [
+        [(x, y) for x, y in cells if 0 <= x < floor[0] and 0 <= y < floor[1]] for cells in ways_due(rows, name)
+    ]
+    return [frame_due(cells) for cells in on_floor if cells]
+
+
+def check_picture(case, picture, floor):
+    case.assertIs(type(picture), list)
+    case.assertEqual(len(picture), floor[1])
+    for row in picture:
+        case.assertIs(type(row), list)
+        case.assertEqual(len(row), floor[0])
+        case.assertTrue(all(is_told_fraction(shade) for shade in row))

@@ -1,0 +1,14 @@
+"""Which cells of two pictures of one size have unlike shades."""
+
+from scenemend.cells import blocks_of
+
+
+def changed_cells(one, other):
+    cells = []
+    for y, row in enumerate(one):
+        cells.extend([(x, y) for x, shade in enumerate(row) if shade != other[y][x]])
+    return cells
+
+
+def changed_blocks(one, other):
+    return blocks_of(changed_cells(one, other))
