@@ -35,6 +35,18 @@ def row_data(row):
     return row[6]
 
 
+def row_with_place(row, x, y):
+    return row[:2] + (x, y) + row[4:]
+
+
+def row_with_shown(row, shown):
+    return row[:4] + (shown,) + row[5:]
+
+
+def row_with_data(row, data):
+    return row[:6] + (data,)
+
+
 def is_holder(row):
     return row_kind(row) in HOLDERS
 

@@ -326,3 +326,25 @@ def check_picture(case, picture, floor):
         case.assertIs(type(row), list)
         case.assertEqual(len(row), floor[0])
         case.assertTrue(all(is_told_fraction(shade) for shade in row))
+
+
+def some_deed(chance, rows, number):
+    """A deed, perhaps one that is refused; a put names its part by the number."""
+    name = chance.choice([row[0] for row in rows] + ["nobody"]) if chance.random() < 0.97 and rows else "nobody"
+    what = chance.choice((
+        "move", "move", "move", "hide", "show", "show", "turn", "size", "change", "put", "put", "take", "raise", "sink",
+    ))
+    if what == "move":
+        return (what, name, chance.randint(-2, 5), chance.randint(-2, 4))
+    if what == "turn":
+        turns = [row[0] for row in rows if row[5] == "turn"] + [name]
+        return (what, chance.choice(turns), chance.choice((-(10 ** 30) - 1, -5, -1, 0, 1, 2, 3, 4, 10 ** 30 + 1)))
+    if what == "size":
+        sized = [row[0] for row in rows if row[5] in ("plate", "window")] + [name]
+        return (what, chance.choice(sized), chance.randint(0, 9), chance.randint(1, 9))
+    if what == "change":
+        kinds = [row[5] for row in rows if row[0] == name] + ["plate"]
+        return (what, name, some_data(chance, kinds[0]))
+    if what == "put":
+        return (what, some_row(chance, rows, "n" + str(number) if chance.random() < 0.95 else "p0"))
+    return (what, name)
