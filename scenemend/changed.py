@@ -1,6 +1,10 @@
-"""Which cells of two pictures of one size have unlike shades."""
+"""Pictures copied, and which cells of two of one size have unlike shades."""
 
 from scenemend.cells import blocks_of
+
+
+def picture_copied(picture):
+    return [list(row) for row in picture]
 
 
 def changed_cells(one, other):

@@ -1,6 +1,7 @@
 """Plans for moves: which cells are copied from the old picture, and which are drawn anew."""
 
 from scenemend.cells import cells_of, stretches_of
+from scenemend.changed import picture_copied
 from scenemend.copies import cells_copied, shift_of
 from scenemend.deeds import deed_done
 from scenemend.places import places_of
@@ -34,7 +35,7 @@ def stretch_cells(stretches):
 
 def plan_done(plan, old, behind):
     shift = plan[0]
-    picture = [list(row) for row in old]
+    picture = picture_copied(old)
     for x, y in stretch_cells(plan[1]):
         picture[y][x] = old[y - shift[1]][x - shift[0]]
     # Drawn behind the copies: where a cell is both, it is as in the picture behind.

@@ -2,7 +2,7 @@
 
 from scenemend.boxes import boxes_parted
 from scenemend.cells import cells_of
-from scenemend.changed import changed_blocks
+from scenemend.changed import changed_blocks, picture_copied
 from scenemend.deeds import deed_done, row_meant, touched_by
 from scenemend.drawing import picture_from
 from scenemend.errors import NoName
@@ -60,10 +60,6 @@ def shade_through(layers, cell, ground):
     for held in layers:
         spot = spot_laid(held.get(cell), spot)
     return shade_on(spot, ground)
-
-
-def picture_copied(picture):
-    return [list(row) for row in picture]
 
 
 def picture_mended(picture, boxes, layers, ground):
