@@ -9,7 +9,7 @@ from scenemend.spots import shade_on, spot_laid, spot_shared
 
 
 def cells_within(row, x, y):
-    """The cells of a holder's content that come to lie at its own cell, in the order in which they are laid."""
+    # In the order in which they are laid, so that the spots of later ones come over earlier ones.
     kind = row_kind(row)
     data = row_data(row)
     if kind == "window":

@@ -31,7 +31,7 @@ class Book:
         return self.kept_film.count()
 
     def filmed(self, picture):
-        """Films the picture that stands, and tells the frame that leads to it from the one ahead."""
+        # The picture handed in is the one ahead of the step, whose own one stands by now.
         standing = self.stage.picture()
         self.kept_film.add(standing)
         return frame_between(picture, standing)

@@ -26,7 +26,7 @@ def may_copy(rows, name):
 
 
 def own_corner(rows, name):
-    """Where on the floor a part's own cell (0, 0) lies, through groups and windows."""
+    # Groups and windows only shift, so the own cell (0, 0) tells where all others lie.
     row = row_of(rows, name)
     x = row_x(row)
     y = row_y(row)
@@ -40,7 +40,7 @@ def own_corner(rows, name):
 
 
 def full_cells(rows, name):
-    """The cells of the floor, or beside it, where a part's own sheet has the cover 1."""
+    # Perhaps beside the floor: both ends of a move are asked for that at once.
     corner = own_corner(rows, name)
     return [(corner[0] + x, corner[1] + y) for x, y, ink, cover in own_sheet(rows, name) if cover == (1, 1)]
 

@@ -65,7 +65,6 @@ def deed_done(rows, deed):
 
 
 def row_meant(rows, deed):
-    """The row of the part that a deed names, or that it puts."""
     return deed[1] if deed[0] == "put" else row_of(rows, deed[1])
 
 

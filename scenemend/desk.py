@@ -48,7 +48,6 @@ def word_read(form, word):
 
 
 def words_read(words):
-    """The first word of a row, and what the others write: a list of names and whole numbers."""
     if words[0] not in FORMS or len(words) != 1 + len(FORMS[words[0]]):
         raise NoRow("no such row is asked at a desk")
     told = [word_read(form, word) for form, word in zip(FORMS[words[0]], words[1:])]

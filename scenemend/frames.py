@@ -6,7 +6,7 @@ from scenemend.errors import Unlike
 
 
 def frame_of(olds, news):
-    """The frame of the cells whose shades are unlike in two dicts that have the same cells."""
+    # Both dicts have the same cells, some perhaps with shades that are alike.
     cells = [cell for cell in olds if olds[cell] != news[cell]]
     frame = []
     for x, y, many in stretches_of(cells):
@@ -33,7 +33,7 @@ def frame_cells(frame):
 
 
 def shades_at(picture, x, y, many):
-    """The shades of a stretch; of cells that the picture lacks there are none."""
+    # Python would count a place below 0 from the end, but there the picture has no cell.
     if x < 0 or not 0 <= y < len(picture):
         return []
     return picture[y][x:x + many]
@@ -63,7 +63,7 @@ def olds_of(frame):
 
 
 def first_over(one, other):
-    """All cells of two dicts, those of both as the first one has them."""
+    # What is put in last stays, so the first one comes last.
     both = dict(other)
     both.update(one)
     return both

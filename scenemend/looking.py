@@ -9,7 +9,7 @@ from scenemend.sheets import sheet_cells
 
 
 def content_names(rows, kids, x, y):
-    """The leaves with a spot at a cell of the content, uppermost first, perhaps some twice."""
+    # Perhaps some twice, where tiles lay more of them: the first time is the uppermost spot.
     names = []
     for row in reversed(kids):
         if row_shown(row):
@@ -23,7 +23,7 @@ def leaf_names(row, x, y):
 
 
 def content_kids(rows, row, x, y):
-    """The rows that colour a holder at its own cell; none where a glass or a mask leaves no cover."""
+    # Where a glass or a mask leaves no cover, no row colours the cell.
     kids = kid_rows(rows, row_name(row))
     if row_kind(row) == "glass" and row_data(row)[0] == (0, 1):
         return []
@@ -58,7 +58,6 @@ def parts_under(rows, x, y):
 
 
 def cells_held(rows, name):
-    """The cells of a part's own sheet in its holder's frame, row by row."""
     return sheet_cells(sheet_placed(row_of(rows, name), own_sheet(rows, name)))
 
 

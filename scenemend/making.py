@@ -42,7 +42,7 @@ def sheet_placed(row, sheet):
 
 
 def content_laid(kids):
-    """Lays the shown ones of a list of tuples (row, own sheet), the later over the earlier ones."""
+    # Own sheets come along with their rows, so that kept ones serve as well as those just drawn.
     held = {}
     for row, sheet in kids:
         if row_shown(row):

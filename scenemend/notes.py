@@ -38,7 +38,7 @@ def is_figures(word):
 
 
 def whole_read(word):
-    """The whole number that a word writes, or None."""
+    # None is told, not refused: each asker has a refusal of its own.
     below = word.startswith("-")
     figures = word[1:] if below else word
     if not is_figures(figures) or word == "-0":
@@ -57,7 +57,7 @@ def fraction_written(share):
 
 
 def fraction_read(word):
-    """The two whole numbers that a word writes, perhaps not in lowest terms, or None."""
+    # Perhaps not in lowest terms: whether it is a share is asked where it is used.
     parts = word.partition("/")
     top = whole_read(parts[0])
     bottom = whole_read(parts[2])
@@ -103,7 +103,6 @@ def row_guessed(words):
 
 
 def row_read(text):
-    """The part's row that a text writes, or None."""
     words = text.split(" ")
     if words[0] not in FORMS or len(words) != HEAD + len(FORMS[words[0]]):
         return None

@@ -9,7 +9,6 @@ def names_with(rows, name):
 
 
 def rows_with(rows, name):
-    """The rows of a part and of all parts in it, in their order."""
     names = names_with(rows, name)
     return [row for row in rows if row_name(row) in names]
 

@@ -18,7 +18,7 @@ def cells_cut(cells, box):
 
 
 def ways_in_holder(row, cells):
-    """Where cells of a holder's content come to lie: one list of cells for each way in which it lays them."""
+    # One list of cells for each laying, so that each gets a place of its own.
     kind = row_kind(row)
     data = row_data(row)
     if kind == "window":
@@ -43,14 +43,14 @@ def ways_to_floor(rows, row, cells):
 
 
 def is_seen(rows, name):
-    """Whether there is a part of that name, and it and all its holders are shown."""
+    # A name of no part may be asked for: nothing is seen of it.
     if row_found(rows, name) is None:
         return False
     return all([row_shown(row_of(rows, other)) for other in [name] + holders_of(rows, name)])
 
 
 def places_by(rows, floor, name, sheet):
-    """The places of a part that is seen, by its own sheet."""
+    # By the own sheet, so that one who keeps it need not draw it again.
     ways = ways_to_floor(rows, row_of(rows, name), sheet_cells(sheet))
     frames = [frame_of_cells(cells_cut(way, (0, 0, floor[0], floor[1]))) for way in ways]
     return [frame for frame in frames if frame is not None]

@@ -8,7 +8,6 @@ from scenemend.places import places_of
 
 
 def cells_beside(boxes, cells):
-    """The cells of boxes that are none of some cells."""
     barred = {}
     for cell in cells:
         barred[cell] = True

@@ -30,7 +30,7 @@ def sheets_made(rows):
 
 
 def sheets_remade(rows, kept, made):
-    """The kept sheets of the parts that stand, those of the named ones made anew, in this order."""
+    # In the order of made: a holder's sheet is made of those that it holds, so these come first.
     sheets = {}
     for row in rows:
         if row_name(row) in kept:

@@ -161,6 +161,24 @@ class BoxesPartedTest(unittest.TestCase):
             told = cells_of_all(boxes_parted(boxes))
             self.assertEqual(sorted(told), sorted(set(cells_of_all(boxes))))
 
+    def test_by_the_words_of_the_promise(self):
+        for boxes in some_lists():
+            due = []
+            for place, box in enumerate(boxes):
+                pieces = [box]
+                for ahead in boxes[:place]:
+                    pieces = [rest for piece in pieces for rest in box_less(piece, ahead)]
+                due.extend(pieces)
+            self.assertEqual(boxes_parted(boxes), due)
+
+    def test_six_hundred_boxes(self):
+        columns = [(3 * place - 450, -450, 1, 900) for place in range(300)]
+        rows = [(-450, 3 * place - 450, 900, 1) for place in range(300)]
+        told = boxes_parted(columns + rows)
+        self.assertEqual(told[:300], columns)
+        due = [(x + 1, y, 2, 1) for left, y, w, h in rows for x in range(-450, 450, 3)]
+        self.assertEqual(told[300:], due)
+
     def test_lists_are_the_askers_own(self):
         boxes = [(0, 0, 2, 2), (1, 0, 2, 2), (0, 0, 2, 2)]
         told = boxes_parted(boxes)

@@ -173,8 +173,8 @@ class FormsTest(unittest.TestCase):
     def test_statements_and_expressions(self):
         for where, node in nodes(ast.stmt):
             self.assertIsInstance(node, STATEMENTS, where)
-            if isinstance(node, ast.Expr):
-                self.assertIsInstance(node.value, (ast.Call, ast.Constant), where)
+            if isinstance(node, ast.Expr) and not isinstance(node.above, ast.Module):
+                self.assertIsInstance(node.value, ast.Call, where)
             if isinstance(node, ast.Assign):
                 self.assertEqual(len(node.targets), 1, where)
                 self.assertNotIsInstance(node.targets[0], (ast.Tuple, ast.List), where)
@@ -199,7 +199,7 @@ class FormsTest(unittest.TestCase):
             names = [part.name for part in node.body if isinstance(part, ast.FunctionDef)]
             self.assertEqual(len(names), len(set(names)), where)
             for part in node.body:
-                self.assertIsInstance(part, (ast.FunctionDef, ast.Pass, ast.Expr), where)
+                self.assertIsInstance(part, (ast.FunctionDef, ast.Pass), where)
 
     def test_comprehensions_fstrings_and_is(self):
         for where, node in nodes(ast.ListComp):
